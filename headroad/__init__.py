@@ -1,0 +1,1 @@
+"""Headroad: beginnings of addresses that tell ways, the longest one first."""
