@@ -7,6 +7,14 @@ def begins(head, address):
     return address.startswith(head)
 
 
+def is_head(text, size):
+    return len(text) <= size and text.count("0") + text.count("1") == len(text)
+
+
+def is_address(text, size):
+    return len(text) == size and is_head(text, size)
+
+
 def number_of(text):
     number = 0
     for sign in text:

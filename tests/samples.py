@@ -64,3 +64,22 @@ def table_of_sixty():
     rows += [("0011" + text, None) for text in texts_of(3)]
     rows += [("00001", 0), ("000010", None), ("0000000000000000", 5)]
     return rows
+
+
+def heads_in(rows):
+    return [row[0] for row in rows]
+
+
+def stands_by_heads(rows):
+    """Whether each head is ahead of the next one: shorter and its beginning, or with 0 where they part."""
+    for one, following in zip(heads_in(rows), heads_in(rows)[1:]):
+        parts = [place for place, pair in enumerate(zip(one, following)) if pair[0] != pair[1]]
+        ahead = one[parts[0]] == "0" if parts else len(one) < len(following)
+        if not ahead:
+            return False
+    return True
+
+
+def is_table(rows):
+    shapes = type(rows) is list and all(type(row) is tuple and len(row) == 2 for row in rows)
+    return shapes and len(set(heads_in(rows))) == len(rows)
